@@ -1,0 +1,1 @@
+"""Agedcopy: copies of unknown age and a log of deeds."""

@@ -1,0 +1,38 @@
+"""Promises 1 and 2: names, arguments and where each thing is defined."""
+
+import importlib
+import inspect
+
+from tests.helpers import Case
+
+# By module the functions, classes and methods of the interface, as they are called.
+CALLS = {
+    "machines": ["Machine(tables)", "check_log(machine, value)", "check_starts(machine, value)",
+                 "step(machine, state, deed)", "state_after(machine, state, log)", "done(machine, log)"],
+    "logs": ["trail(machine, state, log)", "states_after(machine, log, *, starts=None)",
+             "parting_state(machine, one, other)", "width(machine)", "width_log(machine)", "reset_paper(machine)",
+             "reset_holds(machine, value)"],
+    "views": ["unlike_step(machine, value)", "check_view(machine, value)", "viewed_machine(machine, view)",
+              "finest_view(machine, pairs)", "beside_machines(one, other)", "together_machines(one, other)",
+              "part_machine(machine, states)"],
+}
+ERRORS = ["AgeError", "BadMachine", "BadLog", "BadCopy", "BadText", "Refused", "TooGreat", "NoState", "NoDeed"]
+
+
+class InterfaceTest(Case):
+    def test_calls(self):
+        for name, calls in CALLS.items():
+            module = importlib.import_module(f"agedcopy.{name}")
+            for call in calls:
+                path, _, told = call.partition("(")
+                found = module
+                for word in path.split("."):
+                    self.assertIn(word, vars(found), call)
+                    found = vars(found)[word]
+                self.assertEqual(found.__module__, module.__name__)
+                self.assertEqual(str(inspect.signature(found)), "(" + told)
+
+    def test_errors(self):
+        module = importlib.import_module("agedcopy.errors")
+        for name in ERRORS:
+            self.assertEqual(vars(module)[name].__module__, "agedcopy.errors")
