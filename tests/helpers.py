@@ -69,7 +69,7 @@ class Case(unittest.TestCase):
         self.assertEqual(repr(found), repr(told))
         self.assertEqual(found, told)
 
-    def fails(self, error, kept, call, *args, **named):
+    def fails(self, error, kept, call, /, *args, **named):
         """The call raises just this error, which keeps just this argument."""
         with self.assertRaises(error) as caught:
             call(*args, **named)

@@ -15,6 +15,23 @@ CALLS = {
     "views": ["unlike_step(machine, value)", "check_view(machine, value)", "viewed_machine(machine, view)",
               "finest_view(machine, pairs)", "beside_machines(one, other)", "together_machines(one, other)",
               "part_machine(machine, states)"],
+    "texts": ["machine_text(machine)", "read_machine(text)", "log_text(machine, log)", "read_log(machine, text)"],
+    "ages": ["seen_starts(machine, log, age, state, *, starts=None)",
+             "possible_ages(machine, log, state, *, starts=None, kept=None, bound=None)",
+             "age_word(machine, log, one, other, state, *, starts=None)",
+             "parting_starts(machine, log, one, other, state, *, starts=None)",
+             "is_unlike_now(machine, log, one, other, state)"],
+    "forests": ["next_age(machine, log, age, state, *, kept=None)",
+                "age_forest(machine, log, state, *, starts=None, kept=None, bound=None)",
+                "lowest_ages(machine, log, state, *, starts=None, kept=None, bound=None)",
+                "least_marks(machine, log, state, *, starts=None, kept=None, bound=None)",
+                "window_numbers(machine, log, state, width, *, starts=None, kept=None)",
+                "lot_paper(machine, log, state, *, starts=None, kept=None, bound=None)",
+                "lot_holds(machine, log, state, value, *, starts=None, kept=None, bound=None)"],
+    "marks": ["path_marks(machine, log, state, *, starts=None, kept=None)",
+              "bounded_marks(machine, log, state, bound, *, starts=None, kept=None)",
+              "Marker(machine, *, starts=None, bound=None)", "Marker.put(self, deed)", "Marker.keep(self)",
+              "Marker.marks_at(self, state)"],
 }
 ERRORS = ["AgeError", "BadMachine", "BadLog", "BadCopy", "BadText", "Refused", "TooGreat", "NoState", "NoDeed"]
 
