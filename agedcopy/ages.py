@@ -78,5 +78,4 @@ def is_unlike_now(machine, log, one, other, state):
     log = check_log(machine, log)
     check_age(log, one)
     check_later_age(log, one, other)
-    check_state(machine, state)
     return state_after(machine, state, log[one:]) != state_after(machine, state, log[other:])
