@@ -1,5 +1,6 @@
 """The ages at which a state can have been there, and whether two of them are met or parted."""
 
+from agedcopy.kinds import is_below
 from agedcopy.machines import check_log, check_starts, check_state, done, state_after
 from agedcopy.options import check_age, check_later_age, counted_ages
 
@@ -43,6 +44,18 @@ def seen_starts(machine, log, age, state, *, starts=None):
     return tuple([start for start in check_starts(machine, starts) if led[start] == state])
 
 
+def is_shown(machine, log, age, state, starts, value):
+    """Whether any value is one of the starts from which the first `age` deeds lead to a state."""
+    if not is_below(value, machine.states) or value not in starts:
+        return False
+    return state_after(machine, value, log[:age]) == state
+
+
+def are_parted(machine, log, one, other, state):
+    """Whether the deeds between two ages lead a state elsewhere."""
+    return state_after(machine, state, log[one:other]) != state
+
+
 def possible_ages(machine, log, state, *, starts=None, kept=None, bound=None):
     """The ascending ages that count at which some start shows a state."""
     log = check_log(machine, log)
@@ -59,9 +72,9 @@ def age_word(machine, log, one, other, state, *, starts=None):
     behind = seen_starts(machine, log, other, state, starts=starts)
     if ahead == () or behind == ():
         return None
-    if state_after(machine, state, log[one:other]) == state:
-        return "met"
-    return "parted"
+    if are_parted(machine, log, one, other, state):
+        return "parted"
+    return "met"
 
 
 def parting_starts(machine, log, one, other, state, *, starts=None):

@@ -1,7 +1,7 @@
 """The forest of met ages, its lowest ages, and the papers that tell them."""
 
-from agedcopy.ages import seen_starts, shown_ages
-from agedcopy.kinds import is_ascending, is_below, is_sequence_of
+from agedcopy.ages import is_shown, shown_ages
+from agedcopy.kinds import is_ascending, is_sequence_of
 from agedcopy.machines import check_log, check_starts, check_state
 from agedcopy.options import check_age, check_kept, check_told_bound
 from agedcopy.paths import earlier_ages, later_ages
@@ -102,8 +102,6 @@ def lot_holds(machine, log, state, value, *, starts=None, kept=None, bound=None)
         return False
     told = check_starts(machine, starts)
     for age, start in zip(ages, value[2]):
-        if not is_below(start, machine.states):
-            return False
-        if start not in seen_starts(machine, log, age, state, starts=told):
+        if not is_shown(machine, log, age, state, told, start):
             return False
     return True

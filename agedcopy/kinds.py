@@ -11,6 +11,11 @@ def is_below(value, many):
     return is_integer(value) and 0 <= value < many
 
 
+def is_number(value):
+    """Whether a value is an integer from 0 on."""
+    return is_integer(value) and value >= 0
+
+
 def is_positive(value):
     """Whether a value is a number from 1 on."""
     return is_integer(value) and value > 0

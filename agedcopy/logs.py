@@ -2,6 +2,7 @@
 
 from agedcopy.kinds import is_ascending, is_sequence_of
 from agedcopy.machines import check_log, check_starts, check_state, done, image, log_fault
+from agedcopy.walks import first_walks, log_to
 
 
 def trail(machine, state, log):
@@ -31,30 +32,8 @@ def parting_state(machine, one, other):
 
 
 def reached_groups(machine, group):
-    """The groups of states to which logs lead a group, those of the first logs first.
-
-    By group where it came from: the group a deed earlier and that deed, None for the first one.
-    """
-    came = {group: None}
-    queue = [group]
-    at = 0
-    while at < len(queue):
-        for deed, table in enumerate(machine.tables):
-            led = image(table, queue[at])
-            if led not in came:
-                came[led] = (queue[at], deed)
-                queue.append(led)
-        at += 1
-    return came
-
-
-def log_to(came, group):
-    """The first log that leads to a group, from where the groups came from."""
-    deeds = []
-    while came[group] is not None:
-        group, deed = came[group]
-        deeds.append(deed)
-    return tuple(deeds[::-1])
+    """The groups of states to which logs lead a group, those of the first logs first, and where they came from."""
+    return first_walks([group], lambda told: [(deed, image(table, told)) for deed, table in enumerate(machine.tables)])
 
 
 def all_led(machine):

@@ -63,6 +63,52 @@ def led(machine, state, log):
     return state
 
 
+def clocked_machine(draw, states, deeds):
+    """A machine whose states fall into parts, each with a clock that every deed sets on by one, but for a leak."""
+    tables = [[None] * states for _ in range(draw.randint(1, deeds))]
+    base = 0
+    while base < states:
+        many = draw.randint(1, states - base)
+        hours = draw.randint(1, many)
+        clock = [list(range(base + hour, base + many, hours)) for hour in range(hours)]
+        for table in tables:
+            for hour in range(hours):
+                for state in clock[hour]:
+                    table[state] = draw.choice(clock[(hour + 1) % hours])
+        base += many
+    if draw.randrange(3) == 0:
+        for table in tables:
+            table[draw.randrange(states)] = draw.randrange(states)
+    return Machine(tables)
+
+
+def bent(value):
+    """A paper bent at one place each, in many ways; the way it stands too, as lists."""
+    yield from (None, True, False, "", -1, 10 ** 30, (), [[]], nested(40))
+    if isinstance(value, int):
+        yield from (value + 1, value - 1, str(value))
+    if isinstance(value, tuple):
+        yield list(value)
+        for at, item in enumerate(value):
+            yield value[:at] + value[at + 1:]
+            yield value[:at] + (item,) + value[at:]
+            yield value[:at + 1] + value[at:at + 1:-1]
+            for other in bent(item):
+                yield value[:at] + (other,) + value[at + 1:]
+
+
+def is_below(value, many):
+    return type(value) is int and 0 <= value < many
+
+
+def is_row(value, length=None):
+    return type(value) in (list, tuple) and length in (None, len(value))
+
+
+def is_log(machine, value):
+    return is_row(value) and len(value) <= 10000 and all(is_below(deed, machine.deeds) for deed in value)
+
+
 class Case(unittest.TestCase):
     def same(self, found, told):
         """Equal, and of the same kinds within: True is no 1, a list is no tuple."""

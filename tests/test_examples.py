@@ -40,6 +40,41 @@ AGES_AND_MARKS = """
     >>> marker = Marker(turns)
     >>> marker.keep(), marker.put(0), marker.keep(), marker.put(1), marker.keep(), marker.marks_at(0)
     ((0, 0, 0), 1, (1, 1, 1), 2, (1, None, None), (0, 1))
+    >>> from agedcopy.readers import is_safe_marking, read_age, read_copy, unsafe_paper
+    >>> read_age(turns, (0, 0, 0, 0), 0, 1), read_copy(turns, (0, 0, 0, 0, 0), 0, 1)
+    (4, 1)
+    >>> is_safe_marking(turns, (0,), [(0, 0, 0), (1, 1, 1)])
+    True
+    >>> unsafe_paper(turns, (0, 0), [(0, 0, 0)] * 3)
+    ('unsafe', 0, 0, 1, 0, 2)
+"""
+ALL_LOGS = """
+    >>> from agedcopy.machines import Machine
+    >>> from agedcopy.onemark import is_one_mark, one_mark_paper, parted_holds
+    >>> from agedcopy.tokens import all_most, bound_marks, first_lengths, first_log
+    >>> down = Machine([(0, 0, 1, 2), (3, 1, 2, 3)])
+    >>> all_most(down), first_lengths(down, 2), first_log(down, 1, 3), bound_marks(down, 2, 2)
+    ((3, 3, 3, 3), (0, 1, 3), ((0, 0), (0, 1, 2)), 2)
+    >>> is_one_mark(Machine([(0, 0, 2), (1, 1, 2)])), parted_holds(down, ["two", 1, [0], [0, 1]])
+    (True, True)
+    >>> one_mark_paper(Machine([(0, 0, 2), (1, 1, 2)])), is_one_mark(down, starts=[2])
+    (('one',), True)
+"""
+NUMBERS = """
+    >>> from agedcopy.machines import Machine
+    >>> from agedcopy.wrapping import is_enough, least_wrap, never_holds, parting_lengths, wrap_holds
+    >>> rings = Machine([(1, 0, 3, 4, 2, 2)])
+    >>> least_wrap(rings, states=[2])
+    3
+    >>> parting_lengths(rings, 12), is_enough(rings, 4), is_enough(rings, 4, bound=4), least_wrap(rings, bound=4)
+    ((1, 2, 3, 4, 5, 7, 8, 9, 10, 11), False, True, 4)
+    >>> cell = Machine([(1, 0), (0, 1)])
+    >>> least_wrap(cell), never_holds(cell, ("never", 0, 1, (0,), (1,), ()))
+    (None, True)
+    >>> never_holds(cell, ("never", 0, 1, (0,), (0, 0), ()))
+    False
+    >>> wrap_holds(rings, 4, ("wrap", 2, 3, (0, 0, 0, 0, 0, 0, 0, 0)))
+    True
 """
 README = pathlib.Path(__file__).resolve().parent.parent / "README.md"
 
@@ -57,6 +92,12 @@ class ExampleTest(unittest.TestCase):
 
     def test_ages_and_marks(self):
         self.run_text("ages and marks", AGES_AND_MARKS)
+
+    def test_all_logs(self):
+        self.run_text("all logs", ALL_LOGS)
+
+    def test_numbers(self):
+        self.run_text("numbers", NUMBERS)
 
     def test_readme(self):
         self.run_text("README", README.read_text(encoding="utf-8"))

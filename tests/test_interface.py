@@ -32,6 +32,22 @@ CALLS = {
               "bounded_marks(machine, log, state, bound, *, starts=None, kept=None)",
               "Marker(machine, *, starts=None, bound=None)", "Marker.put(self, deed)", "Marker.keep(self)",
               "Marker.marks_at(self, state)"],
+    "readers": ["read_age(machine, log, state, mark, *, starts=None, kept=None, bound=None)",
+                "read_copy(machine, log, state, mark, *, starts=None, kept=None, bound=None)",
+                "is_safe_marking(machine, log, marking, *, starts=None, kept=None, bound=None)",
+                "unsafe_paper(machine, log, marking, *, starts=None, kept=None, bound=None)",
+                "unsafe_holds(machine, log, marking, value, *, starts=None, kept=None, bound=None)"],
+    "onemark": ["one_mark_paper(machine, *, starts=None)", "is_one_mark(machine, *, starts=None)",
+                "parted_holds(machine, value, *, starts=None)"],
+    "tokens": ["most_marks(machine, state, *, starts=None)", "all_most(machine, *, starts=None)",
+               "first_log(machine, state, number, *, starts=None)", "first_lengths(machine, state, *, starts=None)",
+               "bound_marks(machine, state, bound)"],
+    "wrapping": ["parting_lengths(machine, length, *, states=None)",
+                 "is_enough(machine, modulus, *, states=None, bound=None)",
+                 "wrap_paper(machine, modulus, *, states=None, bound=None)",
+                 "wrap_holds(machine, modulus, value, *, states=None, bound=None)",
+                 "least_wrap(machine, *, states=None, bound=None)", "never_paper(machine, *, states=None)",
+                 "never_holds(machine, value, *, states=None)"],
 }
 ERRORS = ["AgeError", "BadMachine", "BadLog", "BadCopy", "BadText", "Refused", "TooGreat", "NoState", "NoDeed"]
 

@@ -11,7 +11,7 @@ FOLDER = pathlib.Path(__file__).resolve().parent.parent / "agedcopy"
 BUILTINS = set("""len range enumerate zip min max sum abs sorted reversed int str bool list tuple dict set isinstance ord
                   repr any all divmod iter map Exception ValueError TypeError KeyError IndexError LookupError""".split())
 METHODS = set("""append clear copy count endswith extend find get index insert isdigit items join keys pop remove replace
-                 reverse setdefault split startswith strip update values add discard""".split())
+                 reverse setdefault split startswith strip update values add discard bit_length""".split())
 DOUBLE = {"__init__", "__eq__", "__repr__", "__str__", "__len__"}
 STATEMENTS = (ast.Assign, ast.AugAssign, ast.If, ast.While, ast.For, ast.Return, ast.Break, ast.Continue, ast.Pass,
               ast.Raise, ast.Assert, ast.Delete, ast.Expr, ast.FunctionDef, ast.ClassDef, ast.ImportFrom, ast.Try)
