@@ -114,9 +114,13 @@ def least_number(kinds):
 
 
 def first_round(steps, pair):
-    """The first log, one deed at least, that leads a pair back to itself; there must be one."""
+    """The first log, one deed at least, that leads a pair back to itself, None if there is none."""
     came = first_walks([pair], lambda told: steps[told])
-    return [log_to(came, told) + (deed,) for told in list(came) for deed, later in steps[told] if later == pair][0]
+    for last in list(came):
+        for deed, later in steps[last]:
+            if later == pair:
+                return log_to(came, last) + (deed,)
+    return None
 
 
 def turning_steps(steps, turn, many, told):

@@ -73,8 +73,29 @@ NUMBERS = """
     (None, True)
     >>> never_holds(cell, ("never", 0, 1, (0,), (0, 0), ()))
     False
-    >>> wrap_holds(rings, 4, ("wrap", 2, 3, (0, 0, 0, 0, 0, 0, 0, 0)))
-    True
+    >>> from agedcopy.onedeed import one_marks, one_rows, one_wrap, orbit_sizes
+    >>> wrap_holds(rings, 4, ("wrap", 2, 3, (0, 0, 0, 0, 0, 0, 0, 0))), orbit_sizes(Machine([(1, 0, 2), (0, 2, 1)]))
+    (True, (3, 3, 3))
+    >>> one_rows(rings)
+    (('ring', 2), ('ring', 2), ('ring', 3), ('ring', 3), ('ring', 3), ('way', 0))
+    >>> one_marks(rings), one_wrap(rings), least_wrap(rings, states=[2])
+    ((2, 2, 3, 3, 3, 1), 6, 3)
+"""
+TAILS_AND_NOTES = """
+    >>> from agedcopy.machines import Machine
+    >>> from agedcopy.notemachine import parting_log
+    >>> from agedcopy.notes import note_of
+    >>> from agedcopy.tails import needed_place, return_ages, tail_place
+    >>> hall = Machine([(1, 2, 2), (0, 0, 0), (0, 2, 1)])
+    >>> return_ages(hall, (2, 2, 0, 2, 2), 1, 0), tail_place(hall, (0, 1, 0), 2, 0)
+    ((0, 2, 4), 1)
+    >>> needed_place(hall, (0, 1, 0), [(2, 0), (1, 3)])
+    1
+    >>> note = note_of(hall, (2, 0))
+    >>> note.possible, note.rows
+    ((1, 2), (((0, 1),), ((2, 1), (1, 2), (0, 2)), ((1, 2), (0, 2))))
+    >>> note.mark(2), note.read(1, 0, (2,)), parting_log(note, note_of(hall, (0, 1)))
+    (1, 1, ())
 """
 README = pathlib.Path(__file__).resolve().parent.parent / "README.md"
 
@@ -98,6 +119,9 @@ class ExampleTest(unittest.TestCase):
 
     def test_numbers(self):
         self.run_text("numbers", NUMBERS)
+
+    def test_tails_and_notes(self):
+        self.run_text("tails and notes", TAILS_AND_NOTES)
 
     def test_readme(self):
         self.run_text("README", README.read_text(encoding="utf-8"))

@@ -48,6 +48,13 @@ CALLS = {
                  "wrap_holds(machine, modulus, value, *, states=None, bound=None)",
                  "least_wrap(machine, *, states=None, bound=None)", "never_paper(machine, *, states=None)",
                  "never_holds(machine, value, *, states=None)"],
+    "onedeed": ["one_rows(machine)", "one_marks(machine)", "one_wrap(machine)", "orbit_sizes(machine)"],
+    "tails": ["return_ages(machine, log, state, age)", "tail_place(machine, log, state, age)",
+              "needed_place(machine, log, copies)"],
+    "notes": ["LogNote(machine, *, starts=None)", "LogNote.put(self, deed)", "LogNote.mark(self, state)",
+              "LogNote.read(self, state, mark, later=())", "note_of(machine, log, *, starts=None)"],
+    "notemachine": ["parting_log(one, other)", "is_alike(one, other)",
+                    "note_number(machine, *, starts=None, most=2000)"],
 }
 ERRORS = ["AgeError", "BadMachine", "BadLog", "BadCopy", "BadText", "Refused", "TooGreat", "NoState", "NoDeed"]
 
