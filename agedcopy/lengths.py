@@ -8,18 +8,8 @@ along which the gaps' greatest common divisor is `gap` are, where great enough, 
 
 from math import gcd, lcm
 
-from agedcopy.pairs import earlier_lots, first_pairs, last_pairs, led_lot, members, next_lots, pair_steps
+from agedcopy.pairs import earlier_lots, first_pairs, last_pairs, members, next_lots, pair_steps, reached_lot
 from agedcopy.walks import first_walks, log_to, things_to
-
-
-def reached_lot(nexts, pair):
-    """The lot to which one step or more lead a pair."""
-    found = 0
-    fresh = nexts[pair]
-    while fresh != 0:
-        found |= fresh
-        fresh = led_lot(nexts, fresh) & ~found
-    return found
 
 
 def round_gap(nexts, pair, around):

@@ -72,6 +72,16 @@ def led_lot(nexts, lot):
     return found
 
 
+def reached_lot(nexts, pair):
+    """The lot to which one step or more lead a pair."""
+    found = 0
+    fresh = nexts[pair]
+    while fresh != 0:
+        found |= fresh
+        fresh = led_lot(nexts, fresh) & ~found
+    return found
+
+
 def lots_behind(nexts, many):
     """By pair the lot to which just so many steps, one at least, lead it."""
     if many == 1:

@@ -6,6 +6,7 @@ import inspect
 from agedcopy import errors
 from agedcopy.machines import Machine
 from agedcopy.notes import LogNote, note_of
+from agedcopy.pages import Pages
 from tests.helpers import ODD, TURNS, Case
 from tests.test_interface import CALLS
 
@@ -51,14 +52,17 @@ class ErrorTest(Case):
 GOOD = {"machine": TURNS, "log": (0, 0), "state": 0, "age": 1, "deed": 1, "mark": 0, "number": 1, "width": 2,
         "bound": 2, "modulus": 3, "length": 9, "marking": [(0, 0, 0), (1, 1, 1), (2, 2, 2)], "copies": [(0, 1)],
         "value": None, "starts": (0, 2), "kept": (0, 1, 2), "states": (0, 1), "view": (0, 0, 0), "pairs": [(0, 1)],
-        "text": "0 1", "tables": [(0,)], "one": 0, "other": 1, "most": 100}
+        "text": "0 1", "tables": [(0,)], "one": 0, "other": 1, "most": 100, "pages": Pages(TURNS, [(0, 0), (0, 1), (1, 0)]),
+        "cell": 1, "cells": [(0,), (1,), (2,)], "word": (0, 1, 1), "order": (1, 0), "ordered": True}
 TWO_AGES = ("age_word", "parting_starts", "is_unlike_now")
+TWO_COPIES = ("pair_ages", "pair_ends", "newer_ways", "fresh_ways", "pair_paper", "order_paper", "fresh_paper",
+              "replica_holds")
 NOTES = {"one": LogNote(TURNS), "other": note_of(TURNS, (0,))}
 OTHERS = {"check_log": {"value": (0, 0)}, "unlike_step": {"value": (0, 0, 0)}, "check_view": {"value": (0, 0, 0)},
           "parting_state": {"one": (0,), "other": (1,)}, "read_machine": {"text": "states 1\n0"},
           "beside_machines": {"one": TURNS, "other": TURNS}, "together_machines": {"one": TURNS, "other": TURNS},
           "part_machine": {"states": (0, 1, 2)}, "read_age": {"starts": None}, "read_copy": {"starts": None},
-          "parting_log": NOTES, "is_alike": NOTES, "orbit_sizes": {"machine": Machine([(1, 0)])},
+          "torn_states": {"kept": [(0, 1, 1)]}, "parting_log": NOTES, "is_alike": NOTES, "orbit_sizes": {"machine": Machine([(1, 0)])},
           **{name: {"machine": Machine([(1, 0)])} for name in ("one_rows", "one_marks", "one_wrap")}}
 # By parameter a wrong value, the error and what it keeps; by function where the document tells it otherwise.
 WRONG = {"log": ((0, 3), errors.BadLog, 1), "state": (3, errors.NoState, 3), "deed": (2, errors.NoDeed, 2),
@@ -66,7 +70,9 @@ WRONG = {"log": ((0, 3), errors.BadLog, 1), "state": (3, errors.NoState, 3), "de
          "bound": (0, errors.Refused, 0), "width": (0, errors.Refused, 0), "number": (0, errors.Refused, 0),
          "modulus": (201, errors.Refused, 201), "length": (401, errors.Refused, 401), "mark": (9, errors.Refused, 9),
          "states": ((), errors.Refused, ()), "marking": ([], errors.Refused, []), "copies": ([0], errors.BadCopy, [0]),
-         "view": ((1, 0, 0), errors.Refused, (1, 0, 0)), "pairs": ([0], errors.Refused, [0])}
+         "view": ((1, 0, 0), errors.Refused, (1, 0, 0)), "pairs": ([0], errors.Refused, [0]),
+         "cell": (2, errors.Refused, 2), "cells": ([], errors.Refused, []), "word": ((), errors.Refused, ()),
+         "order": ((1, 1), errors.Refused, (1, 1))}
 ELSEWHERE = {("parting_state", "one"): ((2,), errors.BadLog, 0), ("parting_state", "other"): ((0, 2), errors.BadLog, 1),
              ("read_log", "text"): ("0 2", errors.BadText, 1),
              ("read_machine", "text"): ("states 1\n1", errors.BadText, 2),
@@ -75,11 +81,12 @@ ELSEWHERE = {("parting_state", "one"): ((2,), errors.BadLog, 0), ("parting_state
              ("check_starts", "value"): ((), errors.Refused, ()),
              ("check_view", "value"): ((1,), errors.Refused, (1,)),
              ("unlike_step", "value"): ((1,), errors.Refused, (1,)),
-             ("note_number", "most"): (2, errors.TooGreat, 2),
+             ("note_number", "most"): (2, errors.TooGreat, 2), ("fewest_kept", "most"): (2, errors.TooGreat, 2),
              ("parting_log", "other"): (LogNote(Machine([(0,)])), errors.Refused, None),
              ("is_alike", "other"): (LogNote(Machine([(0,)])), errors.Refused, None),
              **{(name, "one"): (3, errors.Refused, 3) for name in TWO_AGES},
-             **{(name, "other"): (0, errors.Refused, 0) for name in TWO_AGES}}
+             **{(name, "other"): (0, errors.Refused, 0) for name in TWO_AGES},
+             **{(name, word): (3, errors.NoState, 3) for name in TWO_COPIES for word in ("one", "other")}}
 
 
 class RaisedTest(Case):
@@ -89,7 +96,7 @@ class RaisedTest(Case):
             for name in (call.partition("(")[0] for call in calls):
                 if "." not in name:
                     seen[name] = self.check_call(getattr(importlib.import_module(f"agedcopy.{module}"), name), name)
-        self.assertGreater(sum(seen.values()), 150)
+        self.assertGreater(sum(seen.values()), 190)
 
     def check_call(self, call, name):
         """The call itself is right, and each wrong argument alone raises what is told of it."""

@@ -94,8 +94,35 @@ TAILS_AND_NOTES = """
     >>> note = note_of(hall, (2, 0))
     >>> note.possible, note.rows
     ((1, 2), (((0, 1),), ((2, 1), (1, 2), (0, 2)), ((1, 2), (0, 2))))
+    >>> from agedcopy.struck import fewest_kept
     >>> note.mark(2), note.read(1, 0, (2,)), parting_log(note, note_of(hall, (0, 1)))
     (1, 1, ())
+    >>> fewest_kept(hall, (0, 2, 2, 1, 0), [(0, 0)])
+    (0,)
+"""
+PAGES = """
+    >>> from agedcopy.machines import Machine
+    >>> from agedcopy.pages import Pages, cell_machine, own_deeds, torn_states
+    >>> from agedcopy.torn import least_spread, rounds_needed, safe_orders, shortest_word, torn_holds
+    >>> bits = Pages(Machine([(0, 2, 0, 2), (0, 1, 0, 1)]), [(0, 0), (0, 1), (1, 0), (1, 1)])
+    >>> own_deeds(bits), cell_machine(bits, 0), safe_orders(bits), shortest_word(bits)
+    ((1,), None, ((1, 0),), (1, 0))
+    >>> rounds_needed(bits, (0, 1)), rounds_needed(bits, (1, 0)), least_spread(bits)
+    (2, 1, 1)
+    >>> torn_states(bits, (0,), [(0, 0, 1), (1, 1, 0)]), torn_states(bits, (0, 1), [(0, 0, 1), (1, 1, 0)])
+    ((0, 2), (0,))
+    >>> torn_holds(bits, (0, 1), ["torn", 2, 3, [0], [0, 1]]), torn_holds(bits, (1, 0), ["torn", 2, 3, [0], [0, 1]])
+    (True, False)
+"""
+REPLICAS = """
+    >>> from agedcopy.machines import Machine
+    >>> from agedcopy.replicas import fresh_ways, newer_ways, order_paper, pair_ages, pair_ends, pair_paper, told_pairs
+    >>> worn, ring = Machine([(1, 2, 2)]), Machine([(1, 2, 0)])
+    >>> pair_ages(worn, (0, 0), 1, 2), pair_ends(worn, (0, 0), 0, 1), told_pairs(worn), told_pairs(ring)
+    (((0, 1), (0, 2), (1, 2)), (2,), ((0, 1), (0, 2), (1, 2)), ())
+    >>> newer_ways(ring, (0,), 0, 1), fresh_ways(ring, (0, 0), 0, 1), pair_paper(ring, 0, 1)[:2]
+    ((True, False), (True, True), ('pair', (0, 0)))
+    >>> order_paper(worn, 0, 1)
 """
 README = pathlib.Path(__file__).resolve().parent.parent / "README.md"
 
@@ -122,6 +149,12 @@ class ExampleTest(unittest.TestCase):
 
     def test_tails_and_notes(self):
         self.run_text("tails and notes", TAILS_AND_NOTES)
+
+    def test_pages(self):
+        self.run_text("pages", PAGES)
+
+    def test_replicas(self):
+        self.run_text("replicas", REPLICAS)
 
     def test_readme(self):
         self.run_text("README", README.read_text(encoding="utf-8"))

@@ -55,6 +55,19 @@ CALLS = {
               "LogNote.read(self, state, mark, later=())", "note_of(machine, log, *, starts=None)"],
     "notemachine": ["parting_log(one, other)", "is_alike(one, other)",
                     "note_number(machine, *, starts=None, most=2000)"],
+    "struck": ["kept_right(machine, log, copies, value)", "fewest_kept(machine, log, copies, *, most=20000)"],
+    "pages": ["Pages(machine, cells)", "cell_value(pages, state, cell)", "own_deeds(pages)",
+              "cell_machine(pages, cell)", "torn_states(pages, log, kept)"],
+    "torn": ["is_safe(pages, word)", "word_paper(pages, word)", "torn_holds(pages, word, value)", "safe_orders(pages)",
+             "rounds_needed(pages, order)", "stuck_pairs(pages)", "shortest_word(pages)", "any_order_paper(pages)",
+             "any_torn_holds(pages, value)", "least_spread(pages)"],
+    "replicas": ["pair_ages(machine, log, one, other, *, starts=None)",
+                 "pair_ends(machine, log, one, other, *, ordered=False, starts=None)",
+                 "newer_ways(machine, log, one, other, *, starts=None)",
+                 "fresh_ways(machine, log, one, other, *, starts=None)",
+                 "pair_paper(machine, one, other, *, ordered=False)", "order_paper(machine, one, other)",
+                 "fresh_paper(machine, one, other)", "replica_holds(machine, one, other, value, *, ordered=False)",
+                 "told_pairs(machine, *, ordered=False)", "ordered_pairs(machine)", "fresh_pairs(machine)"],
 }
 ERRORS = ["AgeError", "BadMachine", "BadLog", "BadCopy", "BadText", "Refused", "TooGreat", "NoState", "NoDeed"]
 
