@@ -123,6 +123,42 @@ REPLICAS = """
     >>> newer_ways(ring, (0,), 0, 1), fresh_ways(ring, (0, 0), 0, 1), pair_paper(ring, 0, 1)[:2]
     ((True, False), (True, True), ('pair', (0, 0)))
     >>> order_paper(worn, 0, 1)
+    >>> from agedcopy.gaps import gap_ends, gap_paper, told_gaps
+    >>> gap_ends(ring, (0, 0), 0, 1, 1), gap_paper(worn, 0)[:2], told_gaps(worn, 2), told_gaps(ring, 3)
+    ((1, 2), ('gap', (0,)), (1, 2), ())
+"""
+BORDERS = """
+    >>> from agedcopy.games import order_marks, order_script, script_holds
+    >>> from agedcopy.lists import greatest_list, least_list, now_groups
+    >>> from agedcopy.machines import Machine
+    >>> order_marks(1, 5), order_marks(2, 2), order_marks(2, 4), order_script(2, 4, 3)
+    (1, 2, 3, None)
+    >>> last = ("keep", (), (None, None))
+    >>> one = ("keep", (0, 1), (("drop", 0, last), ("drop", 1, last)))
+    >>> other = ("keep", (0, 1), (("drop", 1, last), ("drop", 0, last)))
+    >>> first = ("keep", (), (("keep", (), (None, one)), ("keep", (), (other, None))))
+    >>> script_holds(2, 3, 2, first), script_holds(2, 3, 3, first)
+    (True, False)
+    >>> ring = Machine([(1, 2, 3, 0)])
+    >>> now_groups(ring, (0, 0, 0), 0)
+    ((0, (3,)), (1, (2,)), (2, (1,)), (3, (0,)))
+    >>> greatest_list(ring, (0, 0, 0), 0, (0, 1, 0, 1)), least_list(ring, (0, 0, 0), 0, 3)[0]
+    (2, 2)
+"""
+STORE = """
+    >>> from agedcopy.desk import Desk
+    >>> from agedcopy.machines import Machine
+    >>> from agedcopy.store import Store
+    >>> store = Store(Machine([(1, 2, 0)]))
+    >>> store.keep(7, 0), store.do(0), store.keep(8, 0), store.do(0), store.do(0), store.keep(9, 0)
+    (0, 1, 1, 2, 3, 0)
+    >>> store.read(7), store.read(8), store.starts_of(8), store.came_to(), store.needed()
+    (0, 2, (2,), ((0, 0, 0), (0, 1, 2)), 2)
+    >>> store.trim(), store.cut, store.log, store.take_back(1), store.read(8), store.needed()
+    (2, 1, (0, 0), (9,), 1, None)
+    >>> desk = Desk("states 2\\n1 1")
+    >>> [desk.say(line) for line in ("keep 3 0", "do 0", "keep 4 0", "keep 4 1", "read 3", "need", "starts 4", "came")]
+    ['0', '1', 'refused', '0', '1', '1', '0 1', '0 0 1, 1 0 1']
 """
 README = pathlib.Path(__file__).resolve().parent.parent / "README.md"
 
@@ -155,6 +191,12 @@ class ExampleTest(unittest.TestCase):
 
     def test_replicas(self):
         self.run_text("replicas", REPLICAS)
+
+    def test_borders(self):
+        self.run_text("borders", BORDERS)
+
+    def test_store(self):
+        self.run_text("store", STORE)
 
     def test_readme(self):
         self.run_text("README", README.read_text(encoding="utf-8"))

@@ -68,6 +68,20 @@ CALLS = {
                  "pair_paper(machine, one, other, *, ordered=False)", "order_paper(machine, one, other)",
                  "fresh_paper(machine, one, other)", "replica_holds(machine, one, other, value, *, ordered=False)",
                  "told_pairs(machine, *, ordered=False)", "ordered_pairs(machine)", "fresh_pairs(machine)"],
+    "gaps": ["gap_ages(machine, log, one, other, gap, *, starts=None)",
+             "gap_ends(machine, log, one, other, gap, *, starts=None)", "gap_paper(machine, gap)",
+             "gap_holds(machine, gap, value)", "told_gaps(machine, most)"],
+    "games": ["order_marks(width, living)", "order_script(width, living, marks)",
+              "script_holds(width, living, marks, value)"],
+    "lists": ["now_groups(machine, log, state, *, starts=None, kept=None)",
+              "greatest_list(machine, log, state, marking, *, starts=None, kept=None)",
+              "least_list(machine, log, state, marks, *, starts=None, kept=None, most=20000)"],
+    "store": ["Store(machine, *, starts=None)", "Store.do(self, deed)", "Store.take_back(self, many)",
+              "Store.needed(self)", "Store.trim(self)", "Store.disks(self)", "Store.keep(self, disk, state)",
+              "Store.give_up(self, disk)", "Store.copy_on(self, disk)", "Store.carry(self, disk, other)",
+              "Store.renew(self, disk)", "Store.read(self, disk)", "Store.starts_of(self, disk)",
+              "Store.marks_on(self, state)", "Store.came_to(self)"],
+    "desk": ["Desk(text)", "Desk.say(self, line)"],
 }
 ERRORS = ["AgeError", "BadMachine", "BadLog", "BadCopy", "BadText", "Refused", "TooGreat", "NoState", "NoDeed"]
 

@@ -87,13 +87,27 @@ class LanguageTest(Case):
             names = [alias.name for node in tree.body if isinstance(node, ast.ImportFrom) for alias in node.names]
             for node in tree.body[1:]:
                 if isinstance(node, ast.Assign):
-                    ast.literal_eval(node.value)
+                    self.check_plain(node.value, [part.name for part in tree.body if isinstance(part, ast.FunctionDef)
+                                                  and part.lineno < node.lineno])
                     names.append(node.targets[0].id)
                 else:
                     self.assertIsInstance(node, (ast.ImportFrom, ast.FunctionDef, ast.ClassDef), name)
                     if not isinstance(node, ast.ImportFrom):
                         names.append(node.name)
             self.assertEqual(len(names), len(set(names)), name)
+
+    def check_plain(self, node, above):
+        """A plain value: literals, and tables of these and of functions defined above."""
+        if isinstance(node, ast.Dict):
+            for part in (*node.keys, *node.values):
+                self.check_plain(part, above)
+        elif isinstance(node, ast.Tuple):
+            for part in node.elts:
+                self.check_plain(part, above)
+        elif isinstance(node, ast.Name):
+            self.assertIn(node.id, above)
+        else:
+            ast.literal_eval(node)
 
     def test_imports(self):
         uses = {}
