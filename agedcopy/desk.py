@@ -89,12 +89,13 @@ def tell_came(store, _):
     return ", ".join([numbers_text(triple) for triple in triples])
 
 
-# By first word of a line how many numbers follow, and what is done.
-ACTIONS = {"do": (1, do_deed), "keep": (2, keep_copy), "renew": (1, renew_copy), "give": (1, give_copy),
-           "carry": (2, carry_copy), "copy": (1, tell_copy), "read": (1, read_disk), "starts": (1, tell_starts),
-           "marks": (1, tell_marks), "back": (1, take_deeds_back), "age": (0, tell_age), "cut": (0, tell_cut),
-           "log": (0, tell_log), "disks": (0, tell_disks), "need": (0, tell_need), "trim": (0, trim_log),
-           "came": (0, tell_came)}
+# By first word of a line what is done, and how many numbers follow it.
+ACTIONS = {"do": do_deed, "keep": keep_copy, "renew": renew_copy, "give": give_copy, "carry": carry_copy,
+           "copy": tell_copy, "read": read_disk, "starts": tell_starts, "marks": tell_marks, "back": take_deeds_back,
+           "age": tell_age, "cut": tell_cut, "log": tell_log, "disks": tell_disks, "need": tell_need,
+           "trim": trim_log, "came": tell_came}
+FOLLOWING = {"do": 1, "keep": 2, "renew": 1, "give": 1, "carry": 2, "copy": 1, "read": 1, "starts": 1, "marks": 1,
+             "back": 1, "age": 0, "cut": 0, "log": 0, "disks": 0, "need": 0, "trim": 0, "came": 0}
 
 
 def is_number_word(word):
@@ -109,10 +110,9 @@ def check_line(value):
     if not isinstance(value, str):
         raise BadText(0)
     words = value.split(" ")
-    if words[0] not in ACTIONS or not all([is_number_word(word) for word in words[1:]]):
+    if words[0] not in FOLLOWING or len(words) != FOLLOWING[words[0]] + 1:
         raise BadText(0)
-    many, _ = ACTIONS[words[0]]
-    if len(words) != many + 1:
+    if not all([is_number_word(word) for word in words[1:]]):
         raise BadText(0)
     return words
 
@@ -126,8 +126,9 @@ class Desk:
     def say(self, line):
         """Does what a line says; returns the answer."""
         words = check_line(line)
-        _, action = ACTIONS[words[0]]
+        action = ACTIONS[words[0]]
+        numbers = [int(word) for word in words[1:]]
         try:
-            return action(self.store, [int(word) for word in words[1:]])
+            return action(self.store, numbers)
         except (AgeError, NoState, NoDeed):
             return "refused"
