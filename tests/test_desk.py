@@ -52,8 +52,8 @@ class DeskTest(Case):
                   ["0", "0", "-", "-", "0", "-", "-", "0", "-"])
         self.same(self.say(desk, "keep 7 0", "do 0", "keep 8 0", "do 0", "do 0", "keep 9 0"),
                   ["0", "1", "1", "2", "3", "0"])
-        self.same(self.say(desk, "age", "log", "disks", "copy 8", "read 8", "starts 8", "starts 7", "marks 0", "marks 1"),
-                  ["3", "0 0 0", "7 8 9", "0 1", "2", "2", "0", "0 1", "-"])
+        self.same(self.say(desk, "age", "log", "disks", "copy 8", "read 8", "starts 8", "starts 7", "marks 0",
+                           "marks 1"), ["3", "0 0 0", "7 8 9", "0 1", "2", "2", "0", "0 1", "-"])
         self.same(self.say(desk, "came", "need", "trim", "cut", "log"), ["0 0 0, 0 1 2", "2", "2", "1", "0 0"])
         self.same(self.say(desk, "back 1", "need", "disks", "carry 8 999", "give 8", "disks", "renew 999", "copy 999"),
                   ["9", "none", "7 8", "ok", "ok", "7 999", "2", "1 2"])
@@ -92,7 +92,8 @@ class DeskTest(Case):
 
     def test_numbers_of_nine_figures(self):
         desk = Desk("states 1\n0")
-        self.same(self.say(desk, "do 999999999", "do 0", "keep 999 0", "keep 100000000 0"), ["refused", "1", "0", "refused"])
+        self.same(self.say(desk, "do 999999999", "do 0", "keep 999 0", "keep 100000000 0"),
+                  ["refused", "1", "0", "refused"])
         self.fails(BadText, 0, desk.say, "keep 0999 0")
 
     def test_arguments_are_counted_by_word(self):

@@ -54,9 +54,9 @@ class ErrorTest(Case):
 GOOD = {"machine": TURNS, "log": (0, 0), "state": 0, "age": 1, "deed": 1, "mark": 0, "number": 1, "width": 2,
         "bound": 2, "modulus": 3, "length": 9, "marking": [(0, 0, 0), (1, 1, 1), (2, 2, 2)], "copies": [(0, 1)],
         "value": None, "starts": (0, 2), "kept": (0, 1, 2), "states": (0, 1), "view": (0, 0, 0), "pairs": [(0, 1)],
-        "text": "0 1", "tables": [(0,)], "one": 0, "other": 1, "most": 100, "pages": Pages(TURNS, [(0, 0), (0, 1), (1, 0)]),
-        "cell": 1, "cells": [(0,), (1,), (2,)], "word": (0, 1, 1), "order": (1, 0), "ordered": True, "gap": 2,
-        "living": 3, "marks": 2}
+        "text": "0 1", "tables": [(0,)], "one": 0, "other": 1, "most": 100,
+        "pages": Pages(TURNS, [(0, 0), (0, 1), (1, 0)]), "cell": 1, "cells": [(0,), (1,), (2,)], "word": (0, 1, 1),
+        "order": (1, 0), "ordered": True, "gap": 2, "living": 3, "marks": 2}
 TWO_AGES = ("age_word", "parting_starts", "is_unlike_now")
 TWO_COPIES = ("pair_ages", "pair_ends", "newer_ways", "fresh_ways", "pair_paper", "order_paper", "fresh_paper",
               "replica_holds")
@@ -66,7 +66,8 @@ OTHERS = {"check_log": {"value": (0, 0)}, "unlike_step": {"value": (0, 0, 0)}, "
           "beside_machines": {"one": TURNS, "other": TURNS}, "together_machines": {"one": TURNS, "other": TURNS},
           "part_machine": {"states": (0, 1, 2)}, "read_age": {"starts": None}, "read_copy": {"starts": None},
           "torn_states": {"kept": [(0, 1, 1)]}, "told_gaps": {"most": 3}, "Desk": {"text": "states 1\n0"},
-          "greatest_list": {"marking": (0, 1)}, "parting_log": NOTES, "is_alike": NOTES, "orbit_sizes": {"machine": Machine([(1, 0)])},
+          "greatest_list": {"marking": (0, 1)}, "parting_log": NOTES, "is_alike": NOTES,
+          "orbit_sizes": {"machine": Machine([(1, 0)])},
           **{name: {"machine": Machine([(1, 0)])} for name in ("one_rows", "one_marks", "one_wrap")}}
 # By parameter a wrong value, the error and what it keeps; by function where the document tells it otherwise.
 WRONG = {"log": ((0, 3), errors.BadLog, 1), "state": (3, errors.NoState, 3), "deed": (2, errors.NoDeed, 2),

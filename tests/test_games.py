@@ -245,6 +245,14 @@ class HoldsTest(Case):
             return ("keep", (), (("drop", 0, rest),))
         self.same([script_holds(2, 2, 1, script(number)) for number in (0, 1, 2)], [False, True, False])
 
+    def test_a_copy_is_given_up_once(self):
+        end = ("keep", (), (("keep", (), (None,)),))
+        once = ("keep", (), (("drop", 0, end),))
+        twice = ("keep", (), (("drop", 0, ("drop", 0, end)),))
+        self.same((script_holds(2, 2, 1, end), script_holds(2, 2, 1, once), script_holds(2, 2, 1, twice)),
+                  (True, True, False))
+        self.same(script_holds(2, 2, 1, ("drop", 0, end)), False)
+
     def test_met_copies(self):
         def script(met):
             return ("keep", (), (("keep", (0,), (("keep", met, (("drop", 0, ("keep", (), (None,))),)),)),))
@@ -254,8 +262,8 @@ class HoldsTest(Case):
 
     def test_bent(self):
         checked = {True: 0, False: 0}
-        for rules, script in (((2, 3, 2), FIRST), ((2, 2, 1), order_script(2, 2, 1)), ((3, 4, 2), order_script(3, 4, 2)),
-                              ((2, 4, 2), order_script(2, 4, 2))):
+        for rules, script in (((2, 3, 2), FIRST), ((2, 2, 1), order_script(2, 2, 1)),
+                              ((3, 4, 2), order_script(3, 4, 2)), ((2, 4, 2), order_script(2, 4, 2))):
             for value in bent(script):
                 told = is_script(rules, Position(), value)
                 checked[told] += 1

@@ -163,6 +163,22 @@ class LeastTest(OptionCase):
                                   for moment in range(len(log) + 1))
         self.assertGreater(found, 0)
 
+    def test_choices_that_must_be_taken_back(self):
+        """The first or last mark that fits now may be wrong later."""
+        for tables, log, state, marks, told in (
+                ([(4, 1, 5, 3, 2, 0), (3, 0, 1, 5, 4, 2), (5, 3, 1, 1, 2, 1)],
+                 (0, 0, 0, 2, 0, 1, 1, 0, 0, 1, 2, 0, 2, 0, 1, 0, 2, 0, 0, 0, 1, 0, 2), 2, 2, 2),
+                ([(2, 7, 1, 3, 0, 6, 4, 1)], (0,) * 22, 2, 2, 2),
+                ([(3, 1, 7, 5, 0, 6, 4, 2), (7, 6, 5, 4, 1, 0, 3, 2), (6, 3, 2, 6, 2, 0, 0, 3)],
+                 (0, 1, 1, 1, 0, 0, 2, 2, 0, 2, 2, 1, 1, 1, 2), 1, 2, 2)):
+            machine = Machine(tables)
+            ages = counting(machine, log, state, None, None, None)
+            number, marking = least_list(machine, log, state, marks)
+            self.same(number, told)
+            self.assertEqual(greatest(machine, log, state, ages, marking), told)
+            self.assertEqual(min(greatest(machine, log, state, ages, marking)
+                                 for marking in searched(machine, log, state, ages, marks)), told)
+
     def test_as_many_marks_as_are_told_and_one_fewer(self):
         for machine, log, state, starts, kept, _ in drawn_cases(278, 200):
             needed = least_marks(machine, log, state, starts=starts, kept=kept)

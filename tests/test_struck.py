@@ -59,6 +59,15 @@ class FewestTest(Case):
         self.same(fewest_kept(TURNS, (0, 0, 0, 0), [(0, 0), (0, 3)]), (3,))
         self.same(fewest_kept(TURNS, (0, 0, 0, 0), [(0, 0), (0, 2)]), (0, 1, 2, 3))
 
+    def test_several_lots_do_the_same(self):
+        machine = Machine([(0, 0), (1, 1), (1, 0)])
+        self.same(fewest_kept(machine, (1, 0, 2, 0, 1), [(1, 1), (0, 1)]), (4,))
+        self.same(fewest_kept(machine, (1, 1, 1, 2, 0, 2, 0, 1), [(0, 3), (1, 2), (0, 2)]), (7,))
+        machine = Machine([(1, 0, 2), (1, 2, 0)])
+        log, copies = (1, 0, 1, 1, 1, 0, 1, 1, 1), [(2, 4), (1, 1), (2, 1), (0, 9)]
+        self.same(fewest_kept(machine, log, copies), (2, 4, 6))
+        self.same(next(lot for lot in lots(log) if is_right(machine, log, copies, lot)), (2, 4, 6))
+
     def test_drawn(self):
         sizes = set()
         for _, machine, log, copies in drawn(201, 250):
